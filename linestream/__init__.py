@@ -1,0 +1,1 @@
+"""Linestream: scripts that go through texts line by line."""

@@ -1,0 +1,191 @@
+"""What can be seen of the rules of the language, file by file of the package (L1 .. L27 are their numbers)."""
+
+import ast
+import builtins
+import re
+import unittest
+import warnings
+from pathlib import Path
+
+PACKAGE = Path(__file__).resolve().parent.parent / "linestream"
+
+LIBRARY = {
+    "heapq": {"heappush", "heappop", "heapify", "heapreplace", "heappushpop"},
+    "math": {"gcd", "lcm", "isqrt", "comb", "perm", "factorial"},
+    "itertools": {"product", "combinations", "permutations"},
+}
+BUILTINS = set(
+    "len range enumerate zip min max sum abs sorted reversed int str bool list tuple dict set frozenset isinstance ord "
+    "repr any all divmod map iter next super property staticmethod classmethod NotImplemented Exception ValueError "
+    "TypeError KeyError IndexError LookupError ZeroDivisionError ArithmeticError OverflowError RuntimeError "
+    "NotImplementedError AttributeError StopIteration object".split())
+DOUBLE = set(
+    "init eq repr str len enter exit call iter lt le gt ge ne add sub mul floordiv mod pow and or xor lshift rshift radd "
+    "rsub rmul rfloordiv rmod rand ror rxor rlshift rrshift iadd isub imul ifloordiv imod ipow iand ior ixor ilshift "
+    "irshift neg pos invert abs bool contains getitem setitem".split())
+METHODS = set(
+    "append clear copy count endswith extend find get index insert isalnum isalpha isdigit islower isspace isupper items "
+    "join keys ljust lower lstrip partition pop remove replace reverse rfind rjust rpartition rsplit rstrip setdefault "
+    "split splitlines startswith strip update upper values zfill bit_length title capitalize swapcase casefold center "
+    "expandtabs removeprefix removesuffix rindex isascii isdecimal isnumeric istitle isidentifier isprintable translate "
+    "maketrans encode decode hex add discard sort".split())
+NOWHERE = set("register mro elements open input law version_info with_traceback add_note".split())
+BARRED = re.compile(
+    r"\b(type|typing|typing_extensions|enum|Enum|IntEnum|StrEnum|Flag|IntFlag|Generic|Protocol|ABC|ABCMeta|namedtuple|"
+    r"NamedTuple|TypedDict|TYPE_CHECKING|abstractmethod)\b|dataclass|overload|contextmanager|_wall\b|_WallAttr")
+NOT_ALLOWED = (
+    ast.Global, ast.AsyncFunctionDef, ast.AsyncFor, ast.AsyncWith, ast.Await, ast.Import, ast.Div, ast.MatMult)
+CAUGHT = {"KeyError", "ZeroDivisionError", "StopIteration", "ValueError", "LookupError", "IndexError"}
+NOT_CAUGHT = {"Exception", "TypeError", "ArithmeticError", "OverflowError", "RuntimeError", "NotImplementedError",
+              "AttributeError", "BaseException"}
+
+
+def sources():
+    return [(path, path.read_text(encoding="utf-8")) for path in sorted(PACKAGE.glob("*.py"))]
+
+
+def trees():
+    return [(path, ast.parse(source)) for path, source in sources()]
+
+
+def nodes(tree, *kinds):
+    return [node for node in ast.walk(tree) if isinstance(node, kinds)]
+
+
+def own_names():
+    """The names of all functions, methods and classes of the package."""
+    return {node.name for _, tree in trees() for node in nodes(tree, ast.FunctionDef, ast.ClassDef)}
+
+
+class FilesTest(unittest.TestCase):
+    def test_one_folder_of_plain_files(self):
+        names = [path.name for path in PACKAGE.iterdir() if path.name != "__pycache__"]
+        self.assertIn("__init__.py", names)
+        self.assertLessEqual(len(names), 100)
+        for name in names:
+            self.assertTrue(name == "__init__.py" or re.fullmatch(r"[a-z][a-z0-9_]*\.py", name), name)
+            self.assertFalse(re.match(r"law_|tests?(ing)?\.|test_|site\.|conftest|sitecustom|usercustom", name), name)
+            self.assertNotIn(name[:-len(".py")], dir(builtins))
+
+    def test_characters_and_sizes(self):
+        for path, source in sources():
+            lines = source.split("\n")
+            self.assertLessEqual(len(lines), 399, path.name)
+            for at, line in enumerate(lines, start=1):
+                self.assertTrue(all(" " <= letter <= "~" for letter in line), (path.name, at))
+                self.assertLessEqual(len(line), 120, (path.name, at))
+
+    def test_small_functions(self):
+        for path, tree in trees():
+            for node in nodes(tree, ast.FunctionDef):
+                first = min([node.lineno] + [each.lineno for each in node.decorator_list])
+                self.assertLessEqual(node.end_lineno - first + 1, 40, (path.name, node.name))
+
+    def test_python_gives_no_warning(self):
+        with warnings.catch_warnings():
+            warnings.simplefilter("error")
+            for path, source in sources():
+                compile(source, path.name, "exec")
+
+    def test_words_that_do_not_occur(self):
+        for path, source in sources():
+            code = "\n".join(line.split("#")[0] for line in source.split("\n"))
+            self.assertIsNone(BARRED.search(code), path.name)
+
+
+class StatementsTest(unittest.TestCase):
+    def test_imports(self):
+        for path, tree in trees():
+            for node in nodes(tree, ast.ImportFrom):
+                names = {alias.name for alias in node.names}
+                self.assertEqual(node.level, 0, path.name)
+                self.assertFalse([alias for alias in node.names if alias.asname], path.name)
+                if node.module in LIBRARY:
+                    self.assertLessEqual(names, LIBRARY[node.module], path.name)
+                else:
+                    self.assertRegex(node.module, r"^linestream\.[a-z_]+$")
+                    self.assertNotIn("*", names, path.name)
+
+    def test_module_level(self):
+        for path, tree in trees():
+            stages = []
+            for at, node in enumerate(tree.body):
+                docstring = isinstance(node, ast.Expr) and isinstance(node.value, ast.Constant) and at == 0
+                if not docstring:
+                    self.assertIsInstance(node, (ast.ImportFrom, ast.FunctionDef, ast.ClassDef, ast.Assign), path.name)
+                    stages.append(not isinstance(node, ast.ImportFrom))
+                if isinstance(node, ast.Assign):
+                    self.assertEqual([type(target) for target in node.targets], [ast.Name], path.name)
+                    self.assertFalse(nodes(node.value, ast.Call, ast.ListComp, ast.DictComp, ast.Lambda), path.name)
+            self.assertEqual(stages, sorted(stages), path.name)
+
+    def test_each_name_is_bound_once(self):
+        for path, tree in trees():
+            bound = []
+            for node in tree.body:
+                if isinstance(node, ast.ImportFrom):
+                    bound += [alias.name for alias in node.names]
+                if isinstance(node, ast.Assign):
+                    bound += [target.id for target in node.targets]
+                if isinstance(node, (ast.FunctionDef, ast.ClassDef)):
+                    bound.append(node.name)
+            self.assertEqual(len(bound), len(set(bound)), path.name)
+
+    def test_what_is_not_allowed(self):
+        for path, tree in trees():
+            self.assertFalse(nodes(tree, *NOT_ALLOWED), path.name)
+            for node in nodes(tree, ast.Constant):
+                self.assertNotIsInstance(node.value, (float, complex), path.name)
+                if isinstance(node.value, str):
+                    self.assertNotIn("%", node.value, path.name)
+
+    def test_errors_that_are_caught(self):
+        own = own_names()
+        for path, tree in trees():
+            for node in nodes(tree, ast.ExceptHandler):
+                self.assertIsNotNone(node.type, path.name)
+                for name in nodes(node.type, ast.Name):
+                    self.assertNotIn(name.id, NOT_CAUGHT, path.name)
+                    self.assertIn(name.id, CAUGHT | own, path.name)
+
+
+class NamesTest(unittest.TestCase):
+    def test_builtins(self):
+        for path, tree in trees():
+            for node in nodes(tree, ast.Name):
+                if node.id in dir(builtins):
+                    self.assertIn(node.id, BUILTINS, (path.name, node.lineno))
+                    self.assertIsInstance(node.ctx, ast.Load, (path.name, node.lineno))
+            for node in nodes(tree, ast.arg):
+                self.assertNotIn(node.arg, dir(builtins), (path.name, node.lineno))
+
+    def test_functions_classes_and_attributes(self):
+        for path, tree in trees():
+            names = [node.name for node in nodes(tree, ast.FunctionDef, ast.ClassDef)]
+            names += [node.attr for node in nodes(tree, ast.Attribute)] + [node.id for node in nodes(tree, ast.Name)]
+            for name in names:
+                self.assertNotIn(name, NOWHERE, path.name)
+                if name.startswith("__"):
+                    self.assertIn(name.strip("_"), DOUBLE | {"class", "name"}, (path.name, name))
+                else:
+                    self.assertRegex(name, r"^(_|_?[A-Za-z][A-Za-z0-9_]*)$")
+
+    def test_methods_that_are_called(self):
+        own = own_names()
+        for path, tree in trees():
+            for node in nodes(tree, ast.Call):
+                if isinstance(node.func, ast.Attribute) and node.func.attr != "__init__":
+                    self.assertIn(node.func.attr, METHODS | own, (path.name, node.lineno))
+
+    def test_decorators(self):
+        for path, tree in trees():
+            for node in nodes(tree, ast.FunctionDef, ast.ClassDef):
+                for each in node.decorator_list:
+                    plain = isinstance(each, ast.Name) and each.id in ("property", "staticmethod", "classmethod")
+                    setter = isinstance(each, ast.Attribute) and each.attr == "setter"
+                    self.assertTrue(plain or setter, (path.name, node.name))
+                    self.assertIsInstance(node, ast.FunctionDef, (path.name, node.name))
+
+
+if __name__ == "__main__":
+    unittest.main()
