@@ -2,8 +2,13 @@
 
 from itertools import product
 
+from linestream.changes import Behind, Every, First, Front, LineChange, Swap
 from linestream.conditions import Begins, Both, Either, Ends, Fails, Has, Is, Only, Test
 from linestream.errors import Finished, InvalidTest, Nothing, TooMany, Unreadable
+from linestream.linesets import LineSet
+from linestream.scripts import (
+    Address, Any, Change, Changed, Command, Count, Drop, Each, Forget, ForgetFirst, If, Keep, Kept, Last, Later, Leave,
+    Not, Number, Print, PrintFirst, Put, PutFirst, Range, Read, Script, Skip, Slide, Stop, Tell)
 
 LETTERS = "".join(chr(code) for code in range(32, 127) if chr(code) != "%")
 
@@ -13,6 +18,11 @@ def nested(value, depth):
     for at in range(depth):
         value = [value] if at % 2 else (value,)
     return value
+
+
+def in_order(lines):
+    """Lines in the order of the document: fewer letters first, then the least."""
+    return sorted(set(lines), key=lambda line: (len(line), line))
 
 
 def no_strings():
@@ -51,3 +61,38 @@ def some_tests():
 def lines_of(letters, most):
     """All lines of these letters, with at most so many of them."""
     return ["".join(line) for length in range(most + 1) for line in product(letters, repeat=length)]
+
+
+def some_changes():
+    """Changes, no two of them equal."""
+    return [
+        First("a", "b"), First("b", "a"), First("a", ""), First("aa", "a"), Every("a", "b"), Every("b", "a"),
+        Every("a", ""), Every("aa", "a"), Swap("a", "b"), Swap("b", "a"), Swap("ab", "ba"), Swap("ba", "ab"),
+        Swap("ab", "bb"), Front("a"), Front("b"), Front("ab"), Behind("a"), Behind("b"), Behind("ab"),
+    ]
+
+
+def some_addresses():
+    """Addresses, no two of them equal."""
+    return [
+        Any(), Number(1), Number(2), Each(1, 1), Each(1, 2), Each(2, 1), Last(), If(Has("a")), If(Has("b")),
+        If(Begins("a")), Changed(), Kept(), Kept(Has("a")), Kept(Has("b")), Not(Any()), Not(Number(1)), Not(Not(Any())),
+        Not(Range(Any(), Last())), Range(Any(), Last()), Range(Last(), Any()), Range(Any(), Number(1)),
+        Range(Any(), Count(1)), Range(Any(), Count(2)), Range(Number(1), Count(2)), Range(Kept(), Not(Changed())),
+    ]
+
+
+def some_commands():
+    """Commands, no two of them equal."""
+    plain = (Print, PrintFirst, Keep, Put, PutFirst, Forget, ForgetFirst, Read, Drop, Slide, Stop, Leave)
+    return [
+        *[kind() for kind in plain], *[kind(at=Last()) for kind in plain], *[kind(at=Number(1)) for kind in plain],
+        Change(First("a", "b")), Change(Every("a", "b")), Change(First("a", "b"), at=Last()), Tell("a"), Tell(""),
+        Tell("a", at=Last()), Later("a"), Later(""), Later("a", at=Last()), Skip(1), Skip(2), Skip(1, at=Last()),
+    ]
+
+
+def any_values():
+    """Values of all kinds that are no line, test, change, address or command of their own right."""
+    return no_strings() + no_lines() + strangers() + [
+        LineChange(), Address(), Command(), Count(1), Script(), LineSet(), LineSet("a")]

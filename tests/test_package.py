@@ -11,15 +11,50 @@ PACKAGE = Path(__file__).resolve().parent.parent / "linestream"
 
 INTERFACE = {
     "conditions": ["Test", "Has", "Begins", "Ends", "Is", "Only", "Fails", "Both", "Either"],
+    "changes": ["places", "LineChange", "First", "Every", "Swap", "Front", "Behind", "done_all"],
+    "linesets": ["LineSet", "before", "parted_on", "result_on", "is_endless_on"],
+    "classes": ["classes", "holding", "cases_of"],
+    "scripts": ["If", "Kept", "Address", "Any", "Number", "Each", "Last", "Changed", "Not", "Range", "Count", "Command",
+                "Change", "Print", "PrintFirst", "Tell", "Later", "Keep", "Put", "PutFirst", "Forget", "ForgetFirst",
+                "Read", "Skip", "Drop", "Slide", "Stop", "Leave", "Script"],
     "errors": ["Beyond", "TooMany", "InvalidTest", "InvalidChange", "InvalidAddress", "InvalidCommand", "InvalidLine",
                "InvalidText", "InvalidRoom", "InvalidCheckpoint", "InvalidSkip", "InvalidBlock", "Unreadable",
                "InvalidRow", "OutOfRange", "NoName", "Nothing", "Finished"],
     "limits": ["MAX_WORD", "MAX_LINE", "MAX_DEPTH", "MAX_COMMANDS", "MAX_ROOM", "MAX_CLASSES", "MAX_BLOCKS",
                "MAX_LINES", "MAX_TIMES"],
 }
+
+# What functions and classes take, by position or by name.
 PARAMETERS = {
-    "Has": ["word"], "Begins": ["word"], "Ends": ["word"], "Is": ["line"], "Only": ["letters"], "Fails": ["test"],
-    "Both": ["one", "other"], "Either": ["one", "other"],
+    "conditions": {
+        "Has": ["word"], "Begins": ["word"], "Ends": ["word"], "Is": ["line"], "Only": ["letters"], "Fails": ["test"],
+        "Both": ["one", "other"], "Either": ["one", "other"],
+    },
+    "changes": {
+        "First": ["old", "new"], "Every": ["old", "new"], "Swap": ["letters", "others"], "Front": ["word"],
+        "Behind": ["word"], "places": ["line", "word"], "done_all": ["changes", "line"],
+    },
+    "linesets": {
+        "before": ["changes", "lines"], "parted_on": ["changes", "others", "lines"], "result_on": ["changes", "lines"],
+        "is_endless_on": ["changes", "lines"],
+    },
+    "classes": {"classes": ["cases"], "holding": ["cases", "lines"], "cases_of": ["script"]},
+    "scripts": {
+        "Number": ["number"], "Each": ["step", "start"], "If": ["test"], "Not": ["address"], "Range": ["start", "stop"],
+        "Count": ["number"],
+    },
+}
+
+# Methods and properties that stand in the body of the class itself.
+BODIES = {
+    "conditions": {name: ["holds", "__eq__"] for name in INTERFACE["conditions"][1:]},
+    "changes": {name: ["done", "has_place", "__eq__"] for name in ("First", "Every", "Swap", "Front", "Behind")},
+    "linesets": {"LineSet": ["of", "every", "__or__", "__and__", "__sub__", "__eq__", "__contains__", "__bool__",
+                             "is_within", "table", "size", "least"]},
+    "scripts": {
+        "Script": ["commands", "window", "store", "is_quiet", "ranges", "__len__", "__eq__"],
+        **{name: ["__eq__"] for name in INTERFACE["scripts"][3:-1] if name != "Command"},
+    },
 }
 
 
@@ -52,14 +87,19 @@ class PackageTest(unittest.TestCase):
                         self.assertEqual(getattr(there, name).__module__, f"linestream.{module}")
 
     def test_names_of_arguments(self):
-        conditions = importlib.import_module("linestream.conditions")
-        for name, expected in PARAMETERS.items():
-            own = getattr(conditions, name)
-            parameters = list(inspect.signature(own).parameters.values())
-            self.assertEqual([each.name for each in parameters], expected)
-            self.assertEqual({each.kind for each in parameters}, {inspect.Parameter.POSITIONAL_OR_KEYWORD})
-            self.assertEqual({each.default for each in parameters}, {inspect.Parameter.empty})
-            self.assertEqual(list(inspect.signature(own.holds).parameters), ["self", "line"])
+        for module, table in PARAMETERS.items():
+            there = importlib.import_module(f"linestream.{module}")
+            for name, expected in table.items():
+                parameters = list(inspect.signature(getattr(there, name)).parameters.values())
+                self.assertEqual([each.name for each in parameters], expected)
+                self.assertEqual({each.kind for each in parameters}, {inspect.Parameter.POSITIONAL_OR_KEYWORD})
+                self.assertEqual({each.default for each in parameters}, {inspect.Parameter.empty})
+
+    def test_methods_stand_in_the_classes_themselves(self):
+        for module, table in BODIES.items():
+            there = importlib.import_module(f"linestream.{module}")
+            for name, expected in table.items():
+                self.assertLessEqual(set(expected), set(vars(getattr(there, name))), name)
 
     def test_the_examples_of_the_readme(self):
         lines = (PACKAGE.parent / "README.md").read_text().split("\n")
