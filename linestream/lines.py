@@ -1,5 +1,6 @@
 """Letters, lines and words, and the order of lines."""
 
+from linestream.errors import InvalidText
 from linestream.limits import MAX_WORD
 
 FIRST_LETTER = 32
@@ -22,6 +23,16 @@ def is_line(value):
 def is_word(value):
     """Whether any value is a word: a line of one or more letters."""
     return is_line(value) and value != ""
+
+
+def is_text(value):
+    """Whether any value is a text: a list of lines, or a tuple of them."""
+    return isinstance(value, (list, tuple)) and all([is_line(line) for line in value])
+
+
+def check_text(value):
+    if not is_text(value):
+        raise InvalidText(value)
 
 
 def is_short_word(value):

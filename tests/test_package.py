@@ -17,6 +17,9 @@ INTERFACE = {
     "scripts": ["If", "Kept", "Address", "Any", "Number", "Each", "Last", "Changed", "Not", "Range", "Count", "Command",
                 "Change", "Print", "PrintFirst", "Tell", "Later", "Keep", "Put", "PutFirst", "Forget", "ForgetFirst",
                 "Read", "Skip", "Drop", "Slide", "Stop", "Leave", "Script"],
+    "running": ["run", "counts", "origins", "trace"],
+    "sessions": ["Session"],
+    "longs": ["LongText", "run_long", "origin_long", "counts_long", "settled"],
     "errors": ["Beyond", "TooMany", "InvalidTest", "InvalidChange", "InvalidAddress", "InvalidCommand", "InvalidLine",
                "InvalidText", "InvalidRoom", "InvalidCheckpoint", "InvalidSkip", "InvalidBlock", "Unreadable",
                "InvalidRow", "OutOfRange", "NoName", "Nothing", "Finished"],
@@ -43,6 +46,12 @@ PARAMETERS = {
         "Number": ["number"], "Each": ["step", "start"], "If": ["test"], "Not": ["address"], "Range": ["start", "stop"],
         "Count": ["number"],
     },
+    "running": {name: ["script", "text"] for name in INTERFACE["running"]},
+    "sessions": {"Session": ["script"]},
+    "longs": {
+        "run_long": ["script", "long"], "origin_long": ["script", "long", "index"], "counts_long": ["script", "long"],
+        "settled": ["script", "long", "number", "line"],
+    },
 }
 
 # Methods and properties that stand in the body of the class itself.
@@ -55,6 +64,9 @@ BODIES = {
         "Script": ["commands", "window", "store", "is_quiet", "ranges", "__len__", "__eq__"],
         **{name: ["__eq__"] for name in INTERFACE["scripts"][3:-1] if name != "Command"},
     },
+    "sessions": {"Session": ["feed", "finish", "script", "fed", "waiting", "printed", "has_ended", "is_finished", "copy",
+                             "checkpoint", "resumed", "__eq__"]},
+    "longs": {"LongText": ["of", "length", "blocks", "__eq__", "__add__", "line_at", "part", "difference"]},
 }
 
 
