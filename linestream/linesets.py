@@ -64,7 +64,7 @@ class LineSet:
         return is_line(value) and has_line(self._rows, value)
 
     def __bool__(self):
-        return self._rows[0] != (False, ())
+        return bool(self._rows[0] != (False, ()))
 
     def __eq__(self, other):
         return isinstance(other, LineSet) and self._rows == other._rows

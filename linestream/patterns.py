@@ -1,6 +1,6 @@
 """The sets of the lines of which tests hold, as rows."""
 
-from linestream.conditions import Begins, Both, Either, Ends, Fails, Has, Is, Only
+from linestream.conditions import Begins, Both, Either, Fails, Has, Is, Only
 from linestream.pairs import BOTH, EITHER, ONLY, made_of
 from linestream.rows import ALL, ALL_LINES, bit_of, least_rows, mask_of
 
@@ -27,11 +27,12 @@ def search(word, at):
 
 
 def rows_of_simple(test):
-    """Rows for a Has, Begins, Ends, Is or Only."""
+    """Rows for a Has, Begins, Is or Only, or an Ends, which is what is left."""
     if isinstance(test, Is):
         return chain(test.line, ())
     if isinstance(test, Only):
-        return ((True, ((mask_of(test.letters), 0),) if test.letters else ()),)
+        mask = mask_of(test.letters)
+        return ((True, ((mask, 0),) if mask else ()),)
     word = test.word
     if isinstance(test, Begins):
         return chain(word, ((ALL, len(word)),))

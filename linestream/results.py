@@ -115,7 +115,7 @@ def is_endless(changes, rows):
 
 def graph_of(changes, rows):
     """What changes do with the lines of a set: rows whose moves tell, instead of letters, whether something comes
-    out."""
+    out. Whether a line is in the set does not matter here."""
     named = mask_of(letters_named(changes))
     start = (0, begun(changes)[0])
     numbers = {start: 0}
@@ -131,7 +131,7 @@ def graph_of(changes, rows):
                 numbers[target] = len(met)
                 met.append(target)
             moves[(line != "", numbers[target])] = True
-        graph.append((rows[index][0], tuple(moves)))
+        graph.append((False, tuple(moves)))
     return graph
 
 

@@ -90,10 +90,14 @@ class Runner:
         self.end_round(commands[index] if index < len(commands) else None)
         self.is_over = self.is_over or is_last
 
+    def end(self):
+        """Ends the script, if it has not ended."""
+        self.is_over = True
+
     def end_round(self, command):
         """Ends a round by a command, or behind the last one."""
         if isinstance(command, Leave):
-            self.is_over = True
+            self.end()
             return
         is_ended = not isinstance(command, (Drop, Slide))
         if is_ended and not self._script.is_quiet:

@@ -41,7 +41,8 @@ def least_letter(mask):
 
 
 def how_many(mask):
-    return f"{mask:b}".count("1")
+    digits = f"{mask:b}"
+    return digits.count("1")
 
 
 def after_letter(rows, state, letter):
@@ -177,7 +178,7 @@ def first_of(rows):
     before = {}
     for state in range(ends[0]):
         for mask, index in rows[state][1]:
-            if index not in before and index != 0:
+            if index not in before:
                 before[index] = (state, least_letter(mask))
     letters = []
     state = ends[0]

@@ -22,13 +22,13 @@ class Session:
         if not is_checkpoint(script, checkpoint):
             raise InvalidCheckpoint(checkpoint)
         made = cls(script)
-        if checkpoint == FINISHED:
-            made._is_finished = True
-        made._runner.is_over = checkpoint[0] != OPEN
-        if checkpoint[0] == OPEN:
-            made._waiting = checkpoint[2]
-            made._fed = checkpoint[1] + (0 if checkpoint[2] is None else 1)
-            made._runner.stand_at(checkpoint)
+        made._is_finished = checkpoint == FINISHED
+        if checkpoint[0] != OPEN:
+            made._runner.end()
+            return made
+        made._waiting = checkpoint[2]
+        made._fed = checkpoint[1] + (0 if checkpoint[2] is None else 1)
+        made._runner.stand_at(checkpoint)
         return made
 
     @property
@@ -81,7 +81,7 @@ class Session:
             raise Finished()
         self.read_waiting(True)
         self._is_finished = True
-        self._runner.is_over = True
+        self._runner.end()
         return self.taken()
 
     def read_waiting(self, is_last):

@@ -27,8 +27,7 @@ def behind(change, state):
 def put_in(change, state, letter):
     """What a letter leads to: the number, and what comes out."""
     if isinstance(change, Swap):
-        at = change.letters.find(letter)
-        return 0, letter if at < 0 else change.others[at]
+        return state, change.done(letter)
     if isinstance(change, (Front, Behind)) or state == DONE:
         return state, letter
     read = change.old[:state] + letter

@@ -68,7 +68,7 @@ def some_changes():
     return [
         First("a", "b"), First("b", "a"), First("a", ""), First("aa", "a"), Every("a", "b"), Every("b", "a"),
         Every("a", ""), Every("aa", "a"), Swap("a", "b"), Swap("b", "a"), Swap("ab", "ba"), Swap("ba", "ab"),
-        Swap("ab", "bb"), Front("a"), Front("b"), Front("ab"), Behind("a"), Behind("b"), Behind("ab"),
+        Swap("ab", "bb"), Swap("ba", "bb"), Front("a"), Front("b"), Front("ab"), Behind("a"), Behind("b"), Behind("ab"),
     ]
 
 

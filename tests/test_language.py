@@ -188,5 +188,143 @@ class NamesTest(unittest.TestCase):
                     self.assertIsInstance(node, ast.FunctionDef, (path.name, node.name))
 
 
+class BindingsTest(unittest.TestCase):
+    def test_imports_are_used_and_name_the_file_that_defines(self):
+        bound = {}
+        for path, tree in trees():
+            tops = [node for node in tree.body if isinstance(node, (ast.FunctionDef, ast.ClassDef))]
+            bound[path.stem] = {node.name for node in tops} | {
+                node.targets[0].id for node in tree.body if isinstance(node, ast.Assign)}
+        for path, tree in trees():
+            used = {node.id for node in nodes(tree, ast.Name)}
+            for node in nodes(tree, ast.ImportFrom):
+                for alias in node.names:
+                    self.assertIn(alias.name, used, path.name)
+                    if node.module not in LIBRARY:
+                        self.assertIn(alias.name, bound[node.module.split(".")[1]], path.name)
+
+    def test_no_two_files_import_from_each_other(self):
+        imports = {path.stem: {node.module.split(".")[-1] for node in nodes(tree, ast.ImportFrom)} for path, tree in trees()}
+        for first in imports:
+            reached, waiting = set(), [first]
+            while waiting:
+                for name in imports.get(waiting.pop(), ()):
+                    self.assertNotEqual(name, first)
+                    if name not in reached:
+                        reached.add(name)
+                        waiting.append(name)
+
+    def test_no_variable_has_the_name_of_a_class_or_an_import(self):
+        for path, tree in trees():
+            taken = {alias.name for node in nodes(tree, ast.ImportFrom) for alias in node.names}
+            taken |= {node.name for node in nodes(tree, ast.ClassDef)}
+            stored = {node.id for node in nodes(tree, ast.Name) if isinstance(node.ctx, ast.Store)}
+            stored |= {node.arg for node in nodes(tree, ast.arg)}
+            self.assertFalse(taken & stored, path.name)
+
+    def test_attributes_are_assigned_through_local_names(self):
+        for path, tree in trees():
+            for node in nodes(tree, ast.Attribute):
+                if isinstance(node.ctx, ast.Store):
+                    self.assertIsInstance(node.value, ast.Name, (path.name, node.lineno))
+
+    def test_names_of_properties_are_names_of_nothing_else(self):
+        properties, methods = set(), set()
+        for _, tree in trees():
+            for node in nodes(tree, ast.ClassDef):
+                for each in node.body:
+                    if isinstance(each, ast.FunctionDef):
+                        marks = [mark.id for mark in each.decorator_list if isinstance(mark, ast.Name)]
+                        (properties if "property" in marks else methods).add(each.name)
+        self.assertFalse(properties & methods)
+        for path, tree in trees():
+            for node in nodes(tree, ast.Attribute):
+                if isinstance(node.ctx, ast.Store):
+                    self.assertNotIn(node.attr, properties | methods, (path.name, node.lineno))
+
+    def test_no_generator_expressions(self):
+        # A class of the package has __eq__, so all, any, sum and the like take lists.
+        for path, tree in trees():
+            self.assertFalse(nodes(tree, ast.GeneratorExp), path.name)
+
+    def test_is_stands_beside_none_true_and_false(self):
+        for path, tree in trees():
+            for node in nodes(tree, ast.Compare):
+                for operator, side in zip(node.ops, node.comparators):
+                    if isinstance(operator, (ast.Is, ast.IsNot)):
+                        self.assertIn(ast.unparse(side), ("None", "True", "False"), (path.name, node.lineno))
+
+
+MODIFYING = set("append extend insert pop remove clear sort reverse update setdefault add discard".split())
+
+
+def functions():
+    """All functions and methods, by their names: tuples (file, class or None, function)."""
+    found = {}
+    for path, tree in trees():
+        for node in tree.body:
+            if isinstance(node, ast.FunctionDef):
+                found.setdefault(node.name, []).append((path.name, None, node))
+            if isinstance(node, ast.ClassDef):
+                for each in nodes(node, ast.FunctionDef):
+                    found.setdefault(each.name, []).append((path.name, node.name, each))
+    return found
+
+
+def is_pure(function):
+    """Whether a function is an operator, a property, or one of the methods that modify nothing, too."""
+    marks = [mark.id for mark in function.decorator_list if isinstance(mark, ast.Name)]
+    return "property" in marks or function.name.startswith("__") and function.name != "__init__"
+
+
+class PureTest(unittest.TestCase):
+    """L5: what operators and properties run changes nothing but what it creates itself."""
+
+    def reached(self):
+        found = functions()
+        waiting = [each for every in found.values() for each in every if is_pure(each[2])]
+        reached = []
+        while waiting:
+            each = waiting.pop()
+            if each not in reached:
+                reached.append(each)
+                for call in nodes(each[2], ast.Call):
+                    name = call.func.id if isinstance(call.func, ast.Name) else getattr(call.func, "attr", "")
+                    waiting += [other for other in found.get(name, []) if (other[1] is None) == isinstance(call.func, ast.Name)]
+        return reached
+
+    def own_containers(self, function):
+        """The names that a function assigns nothing but containers that it creates."""
+        own, others = set(), {each.arg for each in nodes(function, ast.arg)}
+        for node in nodes(function, ast.Assign):
+            created = isinstance(node.value, (ast.List, ast.Dict, ast.ListComp)) or (
+                isinstance(node.value, ast.Call) and getattr(node.value.func, "id", "") in ("list", "dict", "sorted"))
+            for target in node.targets:
+                for name in nodes(target, ast.Name):
+                    if isinstance(name.ctx, ast.Store):
+                        (own if created and name is target else others).add(name.id)
+        for node in nodes(function, ast.For, ast.comprehension, ast.AugAssign):
+            others |= {name.id for name in nodes(node.target, ast.Name) if isinstance(name.ctx, ast.Store)}
+        return own - others
+
+    def test_they_are_reached(self):
+        names = {each[2].name for each in self.reached()}
+        self.assertLessEqual({"made_of", "least_rows", "grouped", "unlike_index", "stand", "addresses_of"}, names)
+
+    def test_they_change_nothing(self):
+        for file, _, function in self.reached():
+            own, place = self.own_containers(function), (file, function.name)
+            for node in ast.walk(function):
+                if isinstance(node, ast.Attribute):
+                    self.assertNotIsInstance(node.ctx, ast.Store, place)
+                if isinstance(node, ast.Subscript) and not isinstance(node.ctx, ast.Load):
+                    self.assertIn(ast.unparse(node.value), own, place)
+                if isinstance(node, ast.Call) and getattr(node.func, "attr", "") in MODIFYING:
+                    self.assertIn(ast.unparse(node.func.value), own, place)
+                if isinstance(node, ast.AugAssign):
+                    self.assertIsInstance(node.target, ast.Name, place)
+                    self.assertIsInstance(node.value, ast.Constant, place)
+
+
 if __name__ == "__main__":
     unittest.main()
