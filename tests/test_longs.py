@@ -453,6 +453,18 @@ class SettledTest(unittest.TestCase):
         self.assertEqual(settled(Script(Leave(at=Number(7))), long, BIG, "x"), BIG)
         self.assertEqual(settled(Script(Read(at=If(Has("x"))), Tell("y"), window=2), long, 2, "x"), 4)
 
+    def test_far_away_behind_steps(self):
+        long = LongText((["a", "b"], BIG), (["c"], BIG))
+        for step in range(1, 7):
+            script = Script(Keep(at=Number(2)), Tell("y", at=Each(step, 1)), Forget(at=If(Has("c"))), store=1)
+            self.assertEqual(settled(script, long, 2, "x"), 2 * BIG + 2)
+        # Where the runs stand is the same ahead of the start of the Each and for a while behind it.
+        script = Script(Keep(at=Number(1)), Skip(1, at=Not(Each(5, 18))), Forget(at=If(Is("a"))), store=1)
+        for times in (30, 31, 33, BIG, BIG + 2 - 3):
+            self.assertEqual(settled(script, LongText((["a", "b", "c", "d"], times)), 1, "x"), 34)
+        script = Script(Keep(at=Number(1)), Skip(1, at=Not(Each(5, BIG + 18))), Forget(at=If(Is("a"))), store=1)
+        self.assertEqual(settled(script, LongText((["a", "b", "c", "d"], BIG)), 1, "x"), BIG + 34)
+
     def test_beside_sessions(self):
         for seed in range(500):
             chance = Chance(seed, far=6 if seed % 3 else 60, most_ranges=2)
