@@ -15,7 +15,8 @@ ALL_LINES = ((True, (((1 << 94) - 1, 0),)),)
 
 
 def bit_of(letter):
-    return 1 << LETTERS.index(letter)
+    # Not by index: errors keep an attribute of this name, and operators call no such name.
+    return 1 << LETTERS.find(letter)
 
 
 def mask_of(letters):

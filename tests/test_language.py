@@ -325,6 +325,23 @@ class PureTest(unittest.TestCase):
                     self.assertIsInstance(node.target, ast.Name, place)
                     self.assertIsInstance(node.value, ast.Constant, place)
 
+    def names_of_attributes(self):
+        """The names of all attributes that the package assigns, and of all its properties."""
+        names = {node.attr for _, tree in trees() for node in nodes(tree, ast.Attribute) if isinstance(node.ctx, ast.Store)}
+        for every in functions().values():
+            for _, _, function in every:
+                if "property" in [mark.id for mark in function.decorator_list if isinstance(mark, ast.Name)]:
+                    names.add(function.name)
+        return names
+
+    def test_they_call_nothing_that_is_called_like_an_attribute(self):
+        names = self.names_of_attributes()
+        self.assertLessEqual({"index", "place", "value", "rows", "window", "_rows"}, names)
+        for file, _, function in self.reached():
+            for node in nodes(function, ast.Call):
+                if isinstance(node.func, ast.Attribute):
+                    self.assertNotIn(node.func.attr, names, (file, function.name))
+
 
 if __name__ == "__main__":
     unittest.main()
