@@ -30,10 +30,9 @@ def set_of_case(case):
     return held
 
 
-def classified(cases):
-    """The classes by a list of cases, in the order of their first lines: a list of tuples (class, answers), answers
-    with a bool for each case: whether it holds of the lines of the class."""
-    sets = [set_of_case(case) for case in cases]
+def classified(sets):
+    """All lines, parted by some sets, in the order of their first lines: a list of tuples (class, answers), answers
+    with a bool for each set: whether the lines of the class are in it."""
     numbers = {}
     for each in sets:
         numbers[each.rows] = numbers.get(each.rows, len(numbers))
@@ -44,7 +43,7 @@ def classified(cases):
 
 def classes(cases):
     """The classes by a list of cases, in the order of their first lines."""
-    return [lines for lines, _ in classified(cases)]
+    return [lines for lines, _ in classified([set_of_case(case) for case in cases])]
 
 
 def holding(cases, lines):

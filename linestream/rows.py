@@ -189,6 +189,29 @@ def first_of(rows):
     return "".join(reversed(letters))
 
 
+def some_lines(rows, many):
+    """So many short lines of the set that least rows tell, or fewer; more than one if it has more than one."""
+    found = []
+    visits = {}
+    waiting = [("", 0)]
+    at = 0
+    while at < len(waiting) and len(found) < many:
+        line, state = waiting[at]
+        at += 1
+        visits[state] = visits.get(state, 0) + 1
+        if visits[state] <= many:
+            if rows[state][0]:
+                found.append(line)
+            for mask, index in rows[state][1]:
+                waiting.extend([(line + letter, index) for letter in sorted(set(end_letters(mask)))])
+    return found
+
+
+def end_letters(mask):
+    """The least and the greatest letter of a mask that is not 0."""
+    return [least_letter(mask), LETTERS[mask.bit_length() - 1]]
+
+
 def size_of(rows):
     """How many lines there are in the set that least rows tell, None if infinitely many."""
     sizes = {}
