@@ -13,6 +13,7 @@ from math import lcm
 
 from linestream.bounds import changes_in, check_bounds_of, kept_tests, named_numbers, steps_in
 from linestream.kinds import Kinds
+from linestream.rounds import lines_of
 from linestream.scripts import (
     Change, Changed, Count, Each, If, Kept, Later, Not, Number, Range, Skip, Tell)
 
@@ -173,6 +174,17 @@ class Chart:
     def answer(self, line):
         """The answer for a line of the store."""
         return () if self.kept_test is None else (self.kept_test.holds(line),)
+
+    def stand_of(self, runner):
+        """The stand of a run of the script."""
+        coming = tuple([TOLD + self.told_number(line) for line in lines_of(runner.coming)])
+        answers = tuple([self.answer(line) for line in lines_of(runner.kept)])
+        return (runner.place, tuple(runner.opened), coming, len(runner.seen), answers)
+
+    def fixed_line(self, kind, choice):
+        """The one line that all lines of a class become by a choice of changes, None if there is not just one."""
+        entry = self.kinds.entry(kind, self.lists[choice])
+        return entry if isinstance(entry, str) else None
 
     def beginning(self):
         """The stand ahead of the first line."""

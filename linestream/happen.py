@@ -136,11 +136,17 @@ class Trial:
         return self._answers[key]
 
     def steps(self):
+        """The steps of a search for a printed line of which the test does not hold."""
         chart = self.chart
         stage = Stage(chart, [not self._test.holds(line) for line in chart.lines_told])
-        return lambda state, is_last: [
-            (True in printed, kind, behind) for _, kind, printed, behind in
-            stage.outcomes(state, is_last, lambda kind, choice: self.can_fail(kind, chart.lists[choice]))]
+
+        def value(kind, choice):
+            return self.can_fail(kind, chart.lists[choice])
+
+        def steps(state, is_last):
+            return [(True in printed, kind, behind)
+                    for _, kind, printed, behind in stage.outcomes(state, is_last, value)]
+        return steps
 
     def beginning(self):
         return (0, self.chart.beginning(), ())

@@ -9,7 +9,7 @@ otherwise a number, the same one for lines that are the same.
 from linestream.bounds import check_bounds_of
 from linestream.charts import CHOICES, TOLD, Chart, Numbering
 from linestream.kinds import Kinds, kinds_in
-from linestream.rounds import Runner, lines_of
+from linestream.rounds import Runner
 from linestream.stages import laid_out
 
 ENDED = None
@@ -47,7 +47,7 @@ class Joint:
         chart = self._charts[side]
         return tuple([(choice, self.entry(kind, chart.lists[choice], is_plain)) for choice in path.choices()])
 
-    def row(self, side, entries):
+    def spread(self, side, entries):
         """The entries of the line that is read, and those of told lines, at the places that their names tell."""
         row = [None] * CHOICES + self._charts[side].lines_told
         for choice, entry in entries:
@@ -71,7 +71,7 @@ class Joint:
         found = {}
         for kind in kinds_in(mask):
             found.setdefault((self.entries(0, path, kind, is_plain), self.entries(1, other, kind, is_plain)), kind)
-        return [(kind, path, self.row(0, entries[0]), other, self.row(1, entries[1]))
+        return [(kind, path, self.spread(0, entries[0]), other, self.spread(1, entries[1]))
                 for entries, kind in found.items()]
 
     def outcomes(self, state, is_last, is_plain):
@@ -135,11 +135,8 @@ class Joint:
         """The stand of a runner, and the entries of what it holds."""
         if runner.is_over:
             return None
-        chart = self._charts[side]
-        coming = tuple([TOLD + chart.told_number(line) for line in lines_of(runner.coming)])
-        answers = tuple([chart.answer(line) for line in lines_of(runner.kept)])
         held = [self.entry_of(side, each, kinds) for each in [*runner.seen, *runner.kept]]
-        return ((runner.place, tuple(runner.opened), coming, len(runner.seen), answers), held)
+        return self._charts[side].stand_of(runner), held
 
     def told(self, state):
         """An outlook: the state with the lines of Later, the window and the store by themselves."""

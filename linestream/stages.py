@@ -6,6 +6,7 @@ window, then of those in the store.
 
 from linestream.charts import CHOICES, NEW, STORE
 from linestream.kinds import kinds_in
+from linestream.values import common
 
 WIDEST = 3
 
@@ -24,13 +25,15 @@ def values_on(path, value):
     found = {}
     for kind in kinds_in(path.mask):
         found.setdefault(tuple([value(kind, choice) for choice in choices]), kind)
-    parts = []
-    for values, kind in found.items():
-        row = [None] * CHOICES
-        for choice, each in zip(choices, values):
-            row[choice] = each
-        parts.append((kind, row))
-    return parts
+    return [(kind, row_of(choices, values)) for values, kind in found.items()]
+
+
+def row_of(choices, values):
+    """The values of the line that is read, at the places that its names tell."""
+    row = [None] * CHOICES
+    for choice, value in zip(choices, values):
+        row[choice] = value
+    return row
 
 
 class Stage:
@@ -67,3 +70,22 @@ class Stage:
                 behind = (path.reads, path.stand(), tuple([lines[name] for name in path.seen + path.kept]))
             found.append((path, kind, [lines[name] for name in path.out], behind))
         return found
+
+
+def least_match(stage, state, target, value):
+    """With how many values of a target begins what is printed from a state on, whatever lines follow. (None as a value
+    is equal to none of them.)"""
+    least = len(target)
+    is_met = {(state, 0): True}
+    waiting = [(state, 0)]
+    while waiting:
+        state, many = waiting.pop()
+        for is_last in (True, False):
+            for _, _, printed, behind in stage.outcomes(state, is_last, value):
+                alike = many + common(printed, target[many:])
+                if alike < many + len(printed) or behind is None:
+                    least = min(least, alike)
+                elif alike < least and (behind, alike) not in is_met:
+                    is_met[(behind, alike)] = True
+                    waiting.append((behind, alike))
+    return least

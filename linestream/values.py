@@ -9,3 +9,11 @@ def is_integer(value):
 def is_counting(value):
     """Whether any value is an integer from 1 on."""
     return is_integer(value) and value >= 1
+
+
+def common(one, other):
+    """With how many equal values two lists, or two strings, begin."""
+    many = 0
+    while many < min(len(one), len(other)) and one[many] == other[many]:
+        many += 1
+    return many
