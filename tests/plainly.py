@@ -2,7 +2,7 @@
 
 from linestream.scripts import (
     Any, Change, Changed, Count, Each, If, Keep, Kept, Last, Later, Not, Number, Print, PrintFirst, Put, PutFirst, Range,
-    Read, Skip, Tell)
+    Read, Skip, Tell, addresses_of)
 
 
 class Held:
@@ -15,22 +15,38 @@ class Held:
         return Held(self.line, self.number, self.changes)
 
 
+class NoLine(Exception):
+    """A line that is to come is not there yet."""
+
+
 class Plain:
     """[30] to [37], for a script and a whole text."""
 
-    def __init__(self, script, text):
+    def __init__(self, script, text, more=0):
         self.script, self.text = script, list(text)
+        # So many lines are to come behind the text.
+        self.length = len(self.text) + more
         self.number = 0
         self.window, self.store, self.later = [], [], []
         self.ranges = {}
         self.printed, self.rounds = [], []
         self.counts = [0] * len(script.commands)
         self.kept_most = 0
-        while self.number < len(self.text):
-            if self.one_round() == "end":
-                break
+        # What was come to: tuples (index, is_done); and how many lines were held just before each line was read.
+        self.events, self.held_ahead = set(), []
+        # For each line that was read what was come to behind it.
+        self.steps = []
+        # By how many lines a printed line was late at most, -1 if there was none.
+        self.late_most = -1
+        self.out, self.later, self.has_ended, self.place = [], [], False, 0
+        while self.number < self.length and not self.has_ended:
+            self.has_ended = self.one_round() == "end"
 
     def read(self):
+        if self.number == len(self.text):
+            raise NoLine()
+        self.held_ahead.append(len(self.window) + len(self.store))
+        self.steps.append([])
         self.number += 1
         self.window = (self.window + [Held(self.text[self.number - 1], self.number)])[-self.script.window:]
         self.changed = False
@@ -43,9 +59,9 @@ class Plain:
         if kind is Number:
             return self.number == address.number
         if kind is Each:
-            return self.number in range(address.start, len(self.text) + 1, address.step)
+            return self.number in range(address.start, self.length + 1, address.step)
         if kind is Last:
-            return self.number == len(self.text)
+            return self.number == self.length
         if kind is If:
             return address.test.holds(newest.line)
         if kind is Changed:
@@ -79,10 +95,11 @@ class Plain:
 
     def put_out(self, held):
         self.out += [each.same() for each in held]
+        self.late_most = max([self.late_most] + [self.number - each.number for each in held if each.number])
 
     def one_round(self):
-        self.read()
         self.out, self.done = [], []
+        self.read()
         ended = self.commands()
         if ended in ("behind", "Stop") and not self.script.is_quiet:
             self.put_out(self.window)
@@ -103,7 +120,10 @@ class Plain:
             if passed_by:
                 passed_by -= 1
                 continue
-            if not self.holds(command.at, at):
+            is_done = self.holds(command.at, at)
+            self.events.add((at, is_done))
+            self.steps[-1].append((at, is_done))
+            if not is_done:
                 continue
             self.done.append(at)
             self.counts[at] += 1
@@ -111,9 +131,11 @@ class Plain:
             if kind.__name__ in ("Drop", "Slide", "Stop", "Leave"):
                 return kind.__name__
             if kind is Read:
-                if self.number == len(self.text):
+                if self.number == self.length:
                     return "behind"
+                self.place = at + 1
                 self.read()
+                self.place = 0
             elif kind is Skip:
                 passed_by = command.many
             else:
@@ -148,3 +170,20 @@ class Plain:
 
     def origins(self):
         return [(each.number, each.changes) for each in self.printed]
+
+
+class Begun(Plain):
+    """A run on a text behind which more lines are to come, up to the reading of the first one of them."""
+
+    def __init__(self, script, text):
+        try:
+            Plain.__init__(self, script, text, 1)
+        except NoLine:
+            self.printed = self.printed + self.out
+
+    def opened(self):
+        """[54]: an integer for each Range, one at most in a command."""
+        commands = [at for at, command in enumerate(self.script.commands) for each in addresses_of(command.at)
+                    if isinstance(each, Range)]
+        many = [self.ranges.get(at, 0) for at in commands]
+        return tuple(each if isinstance(of.stop, Count) else min(each, 1) for each, of in zip(many, self.script.ranges))
