@@ -20,6 +20,14 @@ INTERFACE = {
     "running": ["run", "counts", "origins", "trace"],
     "sessions": ["Session"],
     "longs": ["LongText", "run_long", "origin_long", "counts_long", "settled"],
+    "happen": ["reached", "passed", "unused", "steady", "bare", "silent", "most_printed", "most_kept", "all_printed"],
+    "nevers": ["never", "first_state", "step", "is_never"],
+    "likeness": ["agree", "varied", "alike", "outlook", "without", "swapped", "needless", "swappable"],
+    "closing": ["closed_set", "is_closed_set"],
+    "sources": ["selection", "source"],
+    "lateness": ["late", "sure", "must_keep", "keeps"],
+    "texts": ["write_script", "write_command", "read_script", "read_command"],
+    "desks": ["Desk"],
     "errors": ["Beyond", "TooMany", "InvalidTest", "InvalidChange", "InvalidAddress", "InvalidCommand", "InvalidLine",
                "InvalidText", "InvalidRoom", "InvalidCheckpoint", "InvalidSkip", "InvalidBlock", "Unreadable",
                "InvalidRow", "OutOfRange", "NoName", "Nothing", "Finished"],
@@ -52,6 +60,27 @@ PARAMETERS = {
         "run_long": ["script", "long"], "origin_long": ["script", "long", "index"], "counts_long": ["script", "long"],
         "settled": ["script", "long", "number", "line"],
     },
+    "happen": {
+        "reached": ["script", "index"], "passed": ["script", "index"], "unused": ["script"], "steady": ["script"],
+        "bare": ["script"], "silent": ["script"], "most_printed": ["script"], "most_kept": ["script"],
+        "all_printed": ["script", "test"],
+    },
+    "nevers": {
+        "never": ["script", "index", "is_done"], "first_state": ["script"], "step": ["script", "state", "kind", "is_last"],
+        "is_never": ["script", "index", "is_done", "value"],
+    },
+    "likeness": {
+        "agree": ["one", "other", "text"], "varied": ["one", "other", "text"], "alike": ["one", "other"],
+        "outlook": ["one", "other", "text"], "without": ["script", "index"], "swapped": ["script", "index"],
+        "needless": ["script"], "swappable": ["script"],
+    },
+    "closing": {"closed_set": ["one", "other"], "is_closed_set": ["one", "other", "value"]},
+    "sources": {"selection": ["script"], "source": ["script", "printed"]},
+    "lateness": {"late": ["script"], "sure": ["script", "text"], "must_keep": ["script"], "keeps": ["script"]},
+    "texts": {
+        "write_script": ["script"], "write_command": ["command"], "read_script": ["text"], "read_command": ["line"],
+    },
+    "desks": {"Desk": []},
 }
 
 # Methods and properties that stand in the body of the class itself.
@@ -66,6 +95,7 @@ BODIES = {
     },
     "sessions": {"Session": ["feed", "finish", "script", "fed", "waiting", "printed", "has_ended", "is_finished", "copy",
                              "checkpoint", "resumed", "__eq__"]},
+    "desks": {"Desk": ["scripts", "texts", "say"]},
     "longs": {"LongText": ["of", "length", "blocks", "__eq__", "__add__", "line_at", "part", "difference"]},
 }
 
@@ -104,8 +134,8 @@ class PackageTest(unittest.TestCase):
             for name, expected in table.items():
                 parameters = list(inspect.signature(getattr(there, name)).parameters.values())
                 self.assertEqual([each.name for each in parameters], expected)
-                self.assertEqual({each.kind for each in parameters}, {inspect.Parameter.POSITIONAL_OR_KEYWORD})
-                self.assertEqual({each.default for each in parameters}, {inspect.Parameter.empty})
+                self.assertLessEqual({each.kind for each in parameters}, {inspect.Parameter.POSITIONAL_OR_KEYWORD})
+                self.assertLessEqual({each.default for each in parameters}, {inspect.Parameter.empty})
 
     def test_methods_stand_in_the_classes_themselves(self):
         for module, table in BODIES.items():
