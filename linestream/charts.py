@@ -346,6 +346,11 @@ class Chart:
             path.opened = path.seen = path.kept = path.answers = ()
 
 
+def fixed_lines(chart):
+    """The function fixed_line of a chart, as it is handed to stages."""
+    return lambda kind, choice: chart.fixed_line(kind, choice)
+
+
 def chart_of(script, more=()):
     """The chart of a script, alone; raises Beyond, also for some more tests, and TooMany."""
     check_bounds_of(script, more)

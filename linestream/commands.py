@@ -41,7 +41,8 @@ def placed(command, at):
 
 def with_commands(script, commands):
     """A script with other commands."""
-    return Script(*commands, window=script.window, store=script.store, is_quiet=script.is_quiet)
+    window, store, is_quiet = script.window, script.store, script.is_quiet
+    return Script(*commands, window=window, store=store, is_quiet=is_quiet)
 
 
 def passed_by(script, index):

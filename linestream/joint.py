@@ -11,8 +11,7 @@ from linestream.charts import CHOICES, TOLD, Chart, Numbering
 from linestream.kinds import Kinds, kinds_in
 from linestream.rounds import Runner
 from linestream.stages import laid_out
-
-ENDED = None
+from linestream.values import common
 
 
 class Joint:
@@ -90,15 +89,11 @@ class Joint:
             else:
                 other_out = [*rest, *other_out]
             if is_last:
-                found.append((out != other_out, kind, ENDED))
+                found.append((out != other_out, kind, None))
                 continue
-            many = min(len(out), len(other_out))
-            is_unlike = out[:many] != other_out[:many]
-            behind = ENDED
-            if not is_unlike:
-                left = (1, other_out[many:]) if len(other_out) > many else (0, out[many:])
-                behind = renumbered(self._numbering.behind(number), part, other_part, left)
-            found.append((is_unlike, kind, behind))
+            left = left_behind(out, other_out)
+            behind = None if left is None else renumbered(self._numbering.behind(number), part, other_part, left)
+            found.append((left is None, kind, behind))
         return found
 
     def steps(self, is_plain):
@@ -124,10 +119,9 @@ class Joint:
         runners = [begun(script, text) for script in self.scripts_run]
         out, other_out = [[self.entry_of(side, held, kinds) for held in runner.out]
                           for side, runner in enumerate(runners)]
-        many = min(len(out), len(other_out))
-        if out[:many] != other_out[:many]:
+        left = left_behind(out, other_out)
+        if left is None:
             return None
-        left = (1, other_out[many:]) if len(other_out) > many else (0, out[many:])
         first, second = [self.part_of(side, runner, kinds) for side, runner in enumerate(runners)]
         return renumbered(self._numbering.lessened(len(text)), first, second, left)
 
@@ -157,7 +151,17 @@ def moved(path, lines):
     if path is None:
         return [], None
     out = [lines[name] for name in path.out]
-    return out, None if path.is_over else (path.stand(), [lines[name] for name in path.seen + path.kept])
+    part = None if path.is_over else (path.stand(), [lines[name] for name in path.seen + path.kept])
+    return out, part
+
+
+def left_behind(out, other_out):
+    """What one of both scripts has printed more than the other one: a tuple (side, entries); None if they have not
+    printed the same as far as both have."""
+    many = common(out, other_out)
+    if many < min(len(out), len(other_out)):
+        return None
+    return (1, other_out[many:]) if len(other_out) > many else (0, out[many:])
 
 
 def renumbered(number, first, second, left):

@@ -30,6 +30,7 @@ class Kinds:
         self._masks = {}
         for at, key in enumerate(cases):
             self._masks[key] = sum([1 << kind for kind, (_, answers) in enumerate(pairs) if answers[at]])
+        self._kinds = {}
         self._examples = {}
         self._entries = {}
         self._endless = {}
@@ -60,7 +61,9 @@ class Kinds:
 
     def kind_of(self, line):
         """The class of a line."""
-        return [line in lines for lines in self.sets].index(True)
+        if line not in self._kinds:
+            self._kinds[line] = [line in lines for lines in self.sets].index(True)
+        return self._kinds[line]
 
     def examples(self, kind):
         """Some lines of a class."""

@@ -1,6 +1,6 @@
 """How late lines are printed, what is certain to be printed, and what must be kept for that."""
 
-from linestream.charts import chart_of
+from linestream.charts import chart_of, fixed_lines
 from linestream.joint import begun
 from linestream.kinds import least_kind
 from linestream.lines import check_text
@@ -105,7 +105,7 @@ def sure(script, text):
     held = lines_of([*runner.seen, *runner.kept])
     state = (chart.numbering.lessened(len(text)), chart.stand_of(runner), held)
     stage = Stage(chart, chart.lines_told)
-    return whole[:many + least_match(stage, state, whole[many:], chart.fixed_line)]
+    return whole[:many + least_match(stage, state, whole[many:], fixed_lines(chart))]
 
 
 def keeps(script):

@@ -5,7 +5,7 @@ any more, otherwise a tuple (line, changes, is_endless): a number for the line o
 (the same one if that is the same), and whether there are infinitely many results.
 """
 
-from linestream.charts import NEW, STORE
+from linestream.charts import NEW, STORE, fixed_lines
 from linestream.kinds import kinds_in
 from linestream.search import Tree, reachable
 from linestream.stages import Stage, laid_out, least_match, row_of
@@ -99,7 +99,7 @@ class Needs:
             return self.held_at(behind, lines_in([*out[many:], *printed[many:]]))
         if many == len(out):
             return lines_in(behind[2])
-        decided = least_match(self._further, behind, out[many:], self.chart.fixed_line)
+        decided = least_match(self._further, behind, out[many:], fixed_lines(self.chart))
         return {**lines_in(out[many + decided:]), **self.printed_later(behind, decided)}
 
     def printed_later(self, state, decided):
@@ -107,12 +107,13 @@ class Needs:
         if decided == 0:
             return lines_in(state[2])
         found = {}
+        value = fixed_lines(self.chart)
         is_met = {(state, 0): True}
         waiting = [(state, 0)]
         while waiting:
             state, many = waiting.pop()
             for is_last in (True, False):
-                for _, _, printed, behind in self._further.outcomes(state, is_last, self.chart.fixed_line):
+                for _, _, printed, behind in self._further.outcomes(state, is_last, value):
                     found = {**found, **lines_in(printed[max(0, decided - many):])}
                     place = (behind, many + len(printed))
                     if place[1] >= decided:

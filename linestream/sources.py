@@ -1,11 +1,11 @@
 """Texts from which something is printed."""
 
+from linestream.changes import done_all
 from linestream.charts import Chart, Numbering, chart_of
 from linestream.errors import InvalidText
 from linestream.kinds import Kinds
 from linestream.lines import is_text
 from linestream.linesets import LineSet, before
-from linestream.changes import done_all
 from linestream.running import origins
 from linestream.search import shortest
 from linestream.stages import Stage
@@ -74,11 +74,11 @@ def source(script, printed):
     wanted = list(printed)
     sets = [before(chart.kinds.changes(number), LineSet(line)) for number in chart.lists for line in wanted]
     kinds = Kinds([script], sets)
-    chart = Chart(script, kinds, Numbering([script]))
-    stage = Stage(chart, chart.lines_told)
+    finer = Chart(script, kinds, Numbering([script]))
+    stage = Stage(finer, finer.lines_told)
 
     def value(kind, choice):
-        line = done_all(kinds.changes(chart.lists[choice]), kinds.firsts[kind])
+        line = done_all(kinds.changes(finer.lists[choice]), kinds.firsts[kind])
         return line if line in wanted else None
 
     def steps(state, is_last):

@@ -20,7 +20,7 @@ def laid_out(stand, held):
 
 def values_on(path, value):
     """The values of the line that is read, for the choices of changes with which it matters: a list of tuples (class,
-    values), one for classes with equal values. A function value(kind, choice) tells them."""
+    values), one for classes with equal values."""
     choices = path.choices()
     found = {}
     for kind in kinds_in(path.mask):
@@ -37,7 +37,8 @@ def row_of(choices, values):
 
 
 class Stage:
-    """A chart, and the values of the lines that its script tells."""
+    """A chart, and the values of the lines that its script tells; those of other lines are told by one function
+    value(kind, choice), always the same one."""
 
     def __init__(self, chart, told):
         self._chart = chart

@@ -242,6 +242,32 @@ class BindingsTest(unittest.TestCase):
                 if isinstance(node.ctx, ast.Store):
                     self.assertNotIn(node.attr, properties | methods, (path.name, node.lineno))
 
+    def test_methods_are_called_where_they_stand(self):
+        methods, fields = set(), set()
+        for _, tree in trees():
+            for node in nodes(tree, ast.ClassDef):
+                for each in nodes(node, ast.FunctionDef):
+                    marks = [mark.id for mark in each.decorator_list if isinstance(mark, ast.Name)]
+                    (fields if "property" in marks else methods).add(each.name)
+            fields |= {node.attr for node in nodes(tree, ast.Attribute) if isinstance(node.ctx, ast.Store)}
+        for path, tree in trees():
+            called = [node.func for node in nodes(tree, ast.Call)]
+            for node in nodes(tree, ast.Attribute):
+                if node.attr in (methods | METHODS) - fields:
+                    self.assertIn(node, called, (path.name, node.lineno))
+
+    def test_behind_stars_stand_names_attributes_and_literals(self):
+        properties = {each[2].name for every in functions().values() for each in every
+                      if "property" in [mark.id for mark in each[2].decorator_list if isinstance(mark, ast.Name)]}
+        for path, tree in trees():
+            for node in nodes(tree, ast.Call):
+                at = [isinstance(each, ast.Starred) for each in node.args]
+                if True in at:
+                    for each in node.args[at.index(True):] + [keyword.value for keyword in node.keywords]:
+                        inner = each.value if isinstance(each, ast.Starred) else each
+                        self.assertIsInstance(inner, (ast.Name, ast.Attribute, ast.Constant), (path.name, node.lineno))
+                        self.assertNotIn(getattr(inner, "attr", ""), properties, (path.name, node.lineno))
+
     def test_no_generator_expressions(self):
         # A class of the package has __eq__, so all, any, sum and the like take lists.
         for path, tree in trees():
