@@ -116,6 +116,7 @@ class BoundsTest(unittest.TestCase):
         found = scripts_by_classes()
         self.assertTrue(found[33])
         just = max(many for many in found if many < 33)
+        self.assertEqual(just, 32)
         for script in found[33][:3]:
             for name, ask in ONE.items():
                 self.assertEqual((name, self.raised(ask, script)), (name, 32))

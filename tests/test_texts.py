@@ -12,6 +12,7 @@ from linestream.scripts import (
     Any, Change, Changed, Count, Drop, Each, Forget, ForgetFirst, If, Keep, Kept, Last, Later, Leave, Not, Number, Print,
     PrintFirst, Put, PutFirst, Range, Read, Script, Skip, Slide, Stop, Tell)
 from linestream.texts import read_command, read_script, write_command, write_script
+from tests.grammar import place_of
 from tests.made import Chance
 from tests.samples import LETTERS, any_values, some_addresses, some_changes, some_commands, some_tests
 
@@ -179,6 +180,37 @@ class UnreadableTest(unittest.TestCase):
                         self.assertNotEqual(bent, line)
                     else:
                         self.assertEqual(read_command(write_command(found)), found)
+
+    def told_place(self, line, is_head):
+        """The place at which a line is stuck, None if it is of the form."""
+        try:
+            if is_head:
+                read_script([line])
+            else:
+                read_command(line)
+        except Unreadable as error:
+            return error.place
+        except (InvalidAddress, InvalidTest, InvalidChange, InvalidCommand, InvalidRoom):
+            return None
+        return None
+
+    def test_beside_all_ways_to_read(self):
+        chance = random.Random(8)
+        words = ["print", "tell", "at", "not", "range", "kept", "if", "has", "fails", "both", "any", "last", "number", "each", "count", "is",
+                 '"a"', '""', '"\\"', "1", "0", "23", "change", "first", "skip", "changed", "ends", "either", "window", "store", "quiet", ";", ""]
+        lines = [line for _, line in ROWS] + ["window 1 store 0", "window 12 store 3 quiet"]
+        for _ in range(1500):
+            lines.append(" ".join([chance.choice(["print", "print at", "tell \"x\" at", "skip 1 at not"])] + [chance.choice(words) for _ in range(chance.randrange(1, 6))]))
+        for line in list(lines):
+            at = chance.randrange(len(line) + 1)
+            lines += [line[:at] + chance.choice('aceknr "\\019~') + line[at:], line[:at] + line[at + 1:], line[:at], line + chance.choice([" ", "x", " kept", " at last"])]
+        stuck = 0
+        for line in lines:
+            for is_head in (True, False):
+                place = self.told_place(line, is_head)
+                self.assertEqual((line, place), (line, place_of(line, is_head)))
+                stuck += place is not None
+        self.assertGreater(stuck, 3000)
 
     def check_beginning(self, line):
         try:
