@@ -111,6 +111,9 @@ class EventsTest(unittest.TestCase):
         self.assertEqual([reached(far, 1), reached(far, 2), passed(far, 1)], [None, ["", ""], None])
         counted = Script(Tell("a", at=Not(Range(Number(2), Count(3)))), Drop(at=Each(3, 3)))
         self.assertEqual([len(passed(counted, 0)), len(reached(counted, 1)), len(passed(counted, 1))], [2, 3, 1])
+        # As one that is not the last, or later on as the last one.
+        either = Script(Skip(1, at=Not(Last())), Drop(at=Not(Number(3))), Drop(at=Each(2, 2)), Tell("a"))
+        self.assertEqual([len(reached(either, 3)), len(silent(either)), len(passed(either, 1))], [2, 2, 3])
         kept = Script(Keep(at=If(Is("ab"))), Tell("a", at=Kept(Is("ab"))), Forget(at=Kept()), store=1)
         self.assertEqual([reached(kept, 1), unused(Script(Tell("a", at=Kept(Is("a"))), Keep(), Forget(), store=1))],
                          [["ab"], (0,)])
@@ -218,6 +221,8 @@ class AllPrintedTest(unittest.TestCase):
                 (Script(Change(Front("b")), Change(Behind("b"))), Both(Begins("b"), Ends("b")), None),
                 (Script(), Either(Has("a"), Fails(Has("a"))), None), (Script(), Fails(Is("zz")), 1),
                 (Script(Read(), PrintFirst(), Drop(at=Any()), window=2), Only(""), 1),
+                (Script(Keep(at=If(Has("a"))), Drop(at=Not(Kept())), store=1), Fails(Is("b")), 2),
+                (Script(Keep(at=If(Has("a"))), Drop(at=Not(Kept())), Later("", at=Number(1)), store=1), Fails(Is("bb")), 2),
                 (Script(Read(), PrintFirst(), window=2, is_quiet=True), Only(""), 2)):
             text = all_printed(script, test)
             self.assertEqual(None if text is None else len(text), expected)

@@ -322,6 +322,15 @@ class NeedlessTest(unittest.TestCase):
             self.assertEqual(swappable(script=script), tuple(told))
         self.assertEqual([needless(script=Script()), swappable(Script())], [(), ()])
 
+    def test_cases_that_only_the_swapped_script_has(self):
+        tell, print_it = Tell("x", at=If(Has("a"))), Print(at=If(Has("a")))
+        for script, expected in (
+                (Script(tell, Change(Swap("b", "c"))), (0,)), (Script(tell, Change(Swap("a", "c"))), ()), (Script(print_it, Change(Swap("b", "c"))), ()),
+                (Script(tell, Change(First("b", "b"))), (0,)), (Script(print_it, Change(First("b", "b"))), (0,)),
+                (Script(Change(Swap("b", "c")), tell), (0,)), (Script(Tell("x", at=Changed()), Change(Front("a"))), ()),
+                (Script(Keep(), Change(Swap("b", "c")), Tell("x", at=Kept(Has("a"))), store=1), (0, 1))):
+            self.assertEqual(swappable(script), expected)
+
     def test_too_many_by_a_swapped_script(self):
         one, other = Change(Swap("abc", "bca")), Change(First("ab", "c"))
         tests = [Print(at=If(Is("ab"))), Print(at=If(Is("bc"))), Print(at=If(Is("ca")))]

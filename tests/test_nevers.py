@@ -207,6 +207,17 @@ class NeverTest(unittest.TestCase):
                       ("never", {}), ("never", None), ("never", ()), (None, states), ("never", "never"), (["never"], states)):
             self.assertIs(is_never(script, 2, True, value), False)
 
+    def test_entries_of_stores(self):
+        plain, asked = Script(Print(at=Not(Any())), Keep(), store=2), Script(Print(at=Not(Any())), Keep(at=Kept(Has("a"))), store=2)
+        for script, right, wrong in ((plain, (), (True,)), (asked, (False,), ())):
+            states = never(script, 0, True)[1]
+            self.assertTrue(is_never(script, 0, True, ("never", states)))
+            more = [(0, 1, (), (right,)), (0, 1, (), (right, right)), (0, 0, (), (right,)), (0, 0, (), (right, right))]
+            more = tuple([state for state in more if state not in states])
+            self.assertTrue(is_never(script, 0, True, ("never", (*states, *more))))
+            for bent in ((0, 0, (), (wrong,)), (0, 0, (), (right, wrong)), (0, 0, (), (wrong, right)), (0, 0, (), ([],)), (0, 0, (), (None,))):
+                self.assertFalse(is_never(script, 0, True, ("never", (*states, *more, bent))))
+
     def test_more_states_than_can_come(self):
         script = Script(Tell("x", at=Not(Any())), Read(at=Number(2)), store=1)
         states = tuple(all_states(script))

@@ -225,6 +225,12 @@ class ClosedTest(unittest.TestCase):
             everything = tuple(tuple(text) for text in texts_of(first_lines(one, other), 2, 60))
             self.assertIs(is_closed_set(one, other, everything), False)
 
+    def test_texts_that_part(self):
+        one, other = Script(Tell("a")), Script(Tell("b"))
+        self.assertIsNone(outlook(one, other, ["x"]))
+        for value in ((("x",), ()), ((), ("x",)), (("x", "y"), ("x",), ())):
+            self.assertIs(is_closed_set(one, other, value), False)
+
     def test_any_value(self):
         for value in [*any_values(), [()], ((), []), ((), ""), ((), "a"), ("", ()), ((), ("%",)), ((), (1,)), ((), ((),)), ((), None)]:
             self.assertIs(is_closed_set(Script(is_quiet=True), Script(Drop()), value), False)
