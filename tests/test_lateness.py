@@ -13,6 +13,7 @@ from linestream.running import origins, run
 from linestream.scripts import (
     Any, Change, Changed, Count, Drop, Each, Forget, ForgetFirst, If, Keep, Kept, Last, Later, Leave, Not, Number, Print,
     PrintFirst, Put, PutFirst, Range, Read, Script, Skip, Slide, Stop, Tell)
+from linestream.texts import read_script
 from tests.bounded import few_lines, first_lines, made, texts_of
 from tests.plainly import Plain
 from tests.samples import any_values
@@ -92,6 +93,35 @@ class LateTest(unittest.TestCase):
                 self.assertEqual((number, len(late(script)[1])), expected)
 
 
+# Scripts, as they are written, of which lines are decided that are not printed yet; with what must_keep tells.
+DECIDED = [
+    (['window 2 store 1', 'putfirst at if ends "aa"', 'keep', 'skip 3 at not number 2', 'slide at last', 'putfirst at not number 2', 'change swap "a" "b"', 'change first "a" "a"', 'read at not last'], (1, 1)),
+    (['window 2 store 1', 'putfirst at not number 3', 'read at not number 2', 'printfirst at not last', 'keep at range if either is "b" only "ab" count 3', 'keep at not number 1', 'read at not number 1'], (1, 2)),
+    (['window 2 store 1', 'put at each 2 2', 'slide at if only ""', 'forget at number 2', 'keep at if fails ends "ba"', 'keep at kept', 'later "b" at each 3 2', 'put at last', 'print at not number 1'], (1, 1)),
+    (['window 1 store 1', 'keep', 'read at if ends "ab"', 'putfirst at not number 3'], (1, 2)),
+    (['window 2 store 1 quiet', 'keep', 'read at not last', 'read at not last', 'putfirst at kept'], (0, 0)),
+    (['window 2 store 1', 'put at if ends "ba"', 'keep at number 1', 'keep at if has "aa"', 'forget at last', 'read at range not number 2 count 3', 'read at not last', 'put at not number 2', 'printfirst at not number 1'], (3, 5)),
+    (['window 1 store 1 quiet', 'tell "b" at last', 'putfirst at last', 'keep'], (2, 2)),
+    (['window 2 store 1', 'read at if has "aa"', 'change every "b" "" at number 1', 'skip 1 at not number 3', 'keep', 'stop at if fails is "ab"', 'print at last', 'put at if fails only ""', 'slide at number 3'], (1, 1)),
+    (['window 2 store 1 quiet', 'slide at not number 1', 'change every "b" "a" at not number 2', 'keep at not number 2', 'read at not last', 'putfirst at not number 3', 'forget at last', 'skip 1 at not number 3', 'putfirst at each 1 3'], (0, 0)),
+    (['window 2 store 1', 'keep at if has "aa"', 'keep', 'forgetfirst at range last kept is "a"', 'read at not number 3', 'put at last', 'leave at last', 'change behind "a" at not number 2'], (1, 2)),
+    (['window 2 store 1', 'keep at not last', 'printfirst at not number 2', 'read at not number 2', 'forget at if only "ab"', 'putfirst at if either fails only "" has "aa"', 'stop at not number 1', 'read at not number 2'], (1, 1)),
+    (['window 2 store 1 quiet', 'putfirst at if fails has "a"', 'change every "aa" "ab"', 'putfirst at range if fails is "ab" count 3', 'keep', 'print at last', 'slide at not number 3', 'drop at not number 1', 'read at not last'], (1, 1)),
+    (['window 2 store 1', 'keep at number 2', 'slide at number 3', 'change every "aa" "ab"', 'read at each 3 1', 'putfirst at not number 2', 'stop at kept', 'change first "aa" "" at not number 2', 'print at not number 2'], (1, 4)),
+    (['window 2 store 1', 'forgetfirst at each 2 1', 'putfirst at not number 2', 'printfirst at not number 2', 'keep at range if is "ab" number 3', 'keep at not last', 'read at not number 2', 'putfirst at not number 2'], (1, 3)),
+    (['window 2 store 1', 'put at not last', 'put at last', 'read at if begins "ba"', 'keep at range last count 3', 'keep at each 2 3', 'drop at number 2', 'print at not number 2'], (2, 5)),
+    (['window 1 store 2 quiet', 'skip 1 at if is "a"', 'put at last', 'putfirst', 'keep', 'keep at if is "a"'], (3, 3)),
+    (['window 1 store 2 quiet', 'keep at changed', 'keep', 'put at last', 'putfirst', 'tell "" at if is ""'], (2, 2)),
+    (['window 1 store 2', 'keep', 'put at each 2 2', 'read at number 1', 'putfirst'], (1, 1)),
+    (['window 2 store 0', 'putfirst', 'read at number 1', 'print', 'later "b" at kept is "b"'], (1, 1)),
+    (["window 1 store 1 quiet", "keep at number 1", "skip 2 at not last", "put", "put at each 1 3"], (1, 1)),
+    (['window 1 store 2', 'drop at each 2 2', 'putfirst at if either has "aa" fails is "a"', 'later "a" at not number 1', 'change first "ba" "b"', 'put at not kept', 'keep', 'change every "ab" "ab" at not number 1'], (2, 3)),
+    (['window 1 store 2', 'keep', 'read at not last', 'read at not number 3', 'forget at last', 'putfirst at not last', 'later "a" at not number 2', 'putfirst at if only ""'], (3, 5)),
+    (['window 1 store 2 quiet', 'change every "a" ""', 'putfirst at each 2 1', 'drop at each 2 2', 'put at kept is ""', 'change swap "a" "a"', 'keep at not number 1'], (2, 5)),
+    (['window 1 store 2', 'skip 1 at each 1 3', 'printfirst at not number 1', 'keep at if only "a"', 'put at number 3', 'putfirst at if is "b"', 'read at if fails begins "ab"'], (3, 5)),
+]
+
+
 def begins_with(texts_printed):
     """How many lines all of some lists have in common at their beginning."""
     first = texts_printed[0]
@@ -150,7 +180,11 @@ class SureTest(unittest.TestCase):
                 (Script(Tell("x", at=Last()), Tell("x", at=Number(2)), is_quiet=True), ["a"], ["x"]),
                 (Script(Tell("x", at=Last()), Tell("y", at=Number(2)), is_quiet=True), ["a"], []),
                 (Script(Tell("x", at=Last()), Tell("x", at=Each(3, 3)), Tell("y", at=Last()), is_quiet=True), ["a"], ["x"]),
-                (Script(Print(), Stop(at=Last()), Drop()), ["a"], ["a"])):
+                (Script(Print(), Stop(at=Last()), Drop()), ["a"], ["a"]),
+                # What is printed if further lines follow parts from it, whatever is printed behind that.
+                (Script(Skip(1, at=Last()), Tell("a", at=Number(1)), Tell("b", at=Last()), is_quiet=True), ["x"], []),
+                (Script(Skip(1, at=Last()), Leave(at=Number(1)), Tell("b", at=Last()), is_quiet=True), ["x"], []),
+                (Script(Skip(1, at=Last()), Stop(at=Number(2)), Tell("b", at=Last()), is_quiet=True), ["x", "y"], [])):
             self.assertEqual(sure(script, text), expected)
             self.assertTrue(self.check(script, text, few_lines(2, script)))
 
@@ -242,6 +276,10 @@ class KeepTest(unittest.TestCase):
                 (Script(Keep(), Read(), Put(), window=2, store=1, is_quiet=True), (1, 1)),
                 (Script(Keep(), PutFirst(at=Not(Last())), Put(at=Last()), store=2, is_quiet=True), (1, 1))):
             self.assertEqual(self.check(script), expected)
+
+    def test_lines_that_are_decided_ahead(self):
+        for text, expected in DECIDED:
+            self.assertEqual(self.check(read_script(text)), expected)
 
     def test_keeps(self):
         for script in [script for _, script in made(range(1400, 1500))]:
