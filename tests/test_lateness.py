@@ -227,10 +227,10 @@ class Needed:
         found = self.entries[key]
         return found if isinstance(found, str) else (number, found)
 
-    def many(self, text, most=5):
+    def many(self, text, most=5, cap=150):
         """How many lines are needed after a text."""
         rows = []
-        for more in texts_of(self.firsts, most, 150):
+        for more in texts_of(self.firsts, most, cap):
             whole = text + more
             rows.append((whole, origins(self.script, whole)))
         printed = [[self.entry(whole, origin) for origin in found] for whole, found in rows]
@@ -246,7 +246,7 @@ class KeepTest(unittest.TestCase):
         self.assertEqual([type(number), type(text)], [int, list])
         needed = Needed(script)
         if len(needed.firsts) <= 5:
-            self.assertEqual(needed.many(text, 6), number)
+            self.assertEqual(needed.many(text, 6, 300), number)
             for each in texts_of(needed.firsts, 3, 30):
                 many = needed.many(each)
                 self.assertTrue(many < number or many == number and len(each) >= len(text))
