@@ -4,7 +4,7 @@ from linestream.changes import Swap
 from linestream.conditions import Is, Only, simple_tests
 from linestream.errors import Beyond, OutOfRange
 from linestream.loops import addresses_in
-from linestream.scripts import Change, Count, Each, If, Kept, Number
+from linestream.scripts import Change, Count, Each, If, Kept, Number, Range
 from linestream.streams import lines_named
 from linestream.values import is_integer
 
@@ -27,29 +27,27 @@ def changes_in(script):
     return [command.change for command in script.commands if isinstance(command, Change)]
 
 
-def tests_in(script):
-    """The tests of all addresses, in order."""
-    return [each.test for each in addresses_in(script) if isinstance(each, (If, Kept)) and each.test is not None]
+def tests_in(addresses):
+    return [each.test for each in addresses if isinstance(each, (If, Kept)) and each.test is not None]
 
 
-def kept_tests(script):
-    """The tests of Kepts, in order."""
-    return [each.test for each in addresses_in(script) if isinstance(each, Kept) and each.test is not None]
+def kept_tests(addresses):
+    """The tests of Kepts."""
+    return [each.test for each in addresses if isinstance(each, Kept) and each.test is not None]
 
 
-def named_numbers(script):
+def named_numbers(addresses):
     """The numbers that Numbers, and the starts of Eachs, name."""
-    found = addresses_in(script)
-    return ([each.number for each in found if isinstance(each, Number)]
-            + [each.start for each in found if isinstance(each, Each)])
+    return ([each.number for each in addresses if isinstance(each, Number)]
+            + [each.start for each in addresses if isinstance(each, Each)])
 
 
-def steps_in(script):
-    return [each.step for each in addresses_in(script) if isinstance(each, Each)]
+def steps_in(addresses):
+    return [each.step for each in addresses if isinstance(each, Each)]
 
 
-def counts_in(script):
-    return [each.stop.number for each in script.ranges if isinstance(each.stop, Count)]
+def counts_in(ranges):
+    return [each.stop.number for each in ranges if isinstance(each.stop, Count)]
 
 
 def is_short_test(test):
@@ -70,27 +68,29 @@ def are_at_most(numbers, most):
 
 def check_bounds_of(script, more=()):
     """Raises Beyond with the first bound that a script does not keep, together with the tests of some more."""
-    simple = [each for test in [*tests_in(script), *more] for each in simple_tests(test)]
+    addresses = addresses_in(script)
+    ranges = [each for each in addresses if isinstance(each, Range)]
+    simple = [each for test in [*tests_in(addresses), *more] for each in simple_tests(test)]
     changes = changes_in(script)
     if len(script) > MOST_COMMANDS:
         raise Beyond("commands")
     if script.window + script.store > MOST_ROOM:
         raise Beyond("room")
-    if len(script.ranges) > MOST_RANGES:
+    if len(ranges) > MOST_RANGES:
         raise Beyond("ranges")
     if len(simple) > MOST_TESTS:
         raise Beyond("tests")
-    if len(kept_tests(script)) > MOST_KEPT:
+    if len(kept_tests(addresses)) > MOST_KEPT:
         raise Beyond("kept")
     if len(changes) > MOST_CHANGES:
         raise Beyond("changes")
     if not all([is_short_test(test) for test in simple] + [is_short_change(change) for change in changes]):
         raise Beyond("words")
-    if not are_at_most(named_numbers(script), MOST_NUMBER):
+    if not are_at_most(named_numbers(addresses), MOST_NUMBER):
         raise Beyond("number")
-    if not are_at_most(steps_in(script), MOST_STEP):
+    if not are_at_most(steps_in(addresses), MOST_STEP):
         raise Beyond("step")
-    if not are_at_most(counts_in(script), MOST_COUNT):
+    if not are_at_most(counts_in(ranges), MOST_COUNT):
         raise Beyond("count")
 
 

@@ -13,6 +13,7 @@ from math import lcm
 
 from linestream.bounds import changes_in, check_bounds_of, kept_tests, named_numbers, steps_in
 from linestream.kinds import Kinds
+from linestream.loops import addresses_in
 from linestream.rounds import lines_of
 from linestream.scripts import (
     Change, Changed, Count, Each, If, Kept, Later, Not, Number, Range, Skip, Tell)
@@ -29,11 +30,11 @@ class Numbering:
     they are divided by the steps."""
 
     def __init__(self, scripts):
-        self.far = max([number for script in scripts for number in named_numbers(script)], default=0)
+        addresses = [address for script in scripts for address in addresses_in(script)]
+        self.far = max(named_numbers(addresses), default=0)
         self.cycle = 1
-        for script in scripts:
-            for step in steps_in(script):
-                self.cycle = lcm(self.cycle, step)
+        for step in steps_in(addresses):
+            self.cycle = lcm(self.cycle, step)
 
     def greatest(self):
         return self.far + self.cycle
@@ -120,7 +121,7 @@ class Chart:
         self._bit = 1
         self._steps = [self.compiled(command) for command in script.commands]
         self._opened = (0,) * self._slots
-        tests = kept_tests(script)
+        tests = kept_tests(addresses_in(script))
         self.kept_test = tests[0] if tests else None
         self._kept_masks = self.masks_of_test(self.kept_test)
         self._paths = {}
