@@ -64,13 +64,14 @@ def way_to_print(trails, useful, place):
     ways = {place: []}
     waiting = [place]
     at = 0
-    while waiting[at] not in trails.hits:
-        for further, kind in useful[waiting[at]].items():
+    while place not in trails.hits:
+        for further, kind in useful[place].items():
             if further not in ways:
-                ways[further] = [*ways[waiting[at]], kind]
+                ways[further] = [*ways[place], kind]
                 waiting.append(further)
         at += 1
-    return ways[waiting[at]] + trails.hits[waiting[at]]
+        place = waiting[at]
+    return ways[place] + trails.hits[place]
 
 
 def latest(trails, useful):
@@ -117,8 +118,8 @@ def keeps(script):
         if is_last:
             _, _, _, width, answers = state[1]
             return [(width + len(answers), 0, None)]
-        return [(0, least_kind(path.mask), (path.reads, path.stand()))
-                for path in chart.moves(*state, False) if not path.is_over]
+        return [(0, least_kind(each.mask), (each.reads, each.stand()))
+                for each in chart.moves(*state, False) if not each.is_over]
     many, path = greatest((0, chart.beginning()), steps)
     return many, chart.kinds.lines_on(path)
 
