@@ -67,7 +67,7 @@ def answer_of(pieces):
     return " ".join(pieces) if pieces else NONE
 
 
-def named(kept, name):
+def found_in(kept, name):
     """What is kept under a name."""
     if name not in kept:
         raise NoName(name)
@@ -101,7 +101,7 @@ class Desk:
             return self.keep_as("text", *rest)
         if word == "drop":
             kept, name = rest
-            named(self.table_of(kept), name)
+            found_in(self.table_of(kept), name)
             return self.keep_as(kept, name, None)
         if word == "undo":
             return self.undo()
@@ -109,11 +109,11 @@ class Desk:
 
     def ask(self, word, name, other):
         """Answers a question about what is kept."""
-        script = named(self._scripts, name)
+        script = found_in(self._scripts, name)
         if word == "alike":
-            text = alike(script, named(self._scripts, other))
+            text = alike(script, found_in(self._scripts, other))
             return NONE if text is None else answer_of([literal(line) for line in text])
-        text = named(self._texts, other)
+        text = found_in(self._texts, other)
         if word == "run":
             return answer_of([literal(line) for line in run(script, text)])
         return answer_of([str(many) for many in counts(script, text)])

@@ -76,6 +76,7 @@ def way_to_print(trails, useful, place):
 
 def latest(trails, useful):
     """The greatest number by which a line is late, where there are no loops, and the classes of a text."""
+    # In each layer the places stand in the order of their texts, shorter ones first.
     layer = {place: path for place, path in trails.first_places().items() if place in useful}
     number = 0
     found = []
@@ -85,8 +86,7 @@ def latest(trails, useful):
         behind = {}
         for place, path in layer.items():
             for further, kind in useful[place].items():
-                if further not in behind or len(path) < len(behind[further]) - 1:
-                    behind[further] = [*path, kind]
+                behind.setdefault(further, [*path, kind])
         layer = behind
     return number, min(found, key=len)
 

@@ -114,7 +114,7 @@ class Needs:
             state, many = waiting.pop()
             for is_last in (True, False):
                 for _, _, printed, behind in self._further.outcomes(state, is_last, value):
-                    found = {**found, **lines_in(printed[max(0, decided - many):])}
+                    found = {**found, **lines_in(printed[decided - many:])}
                     place = (behind, many + len(printed))
                     if place[1] >= decided:
                         found = self.held_at(self.living(behind), found)

@@ -114,6 +114,14 @@ class EventsTest(unittest.TestCase):
         # As one that is not the last, or later on as the last one.
         either = Script(Skip(1, at=Not(Last())), Drop(at=Not(Number(3))), Drop(at=Each(2, 2)), Tell("a"))
         self.assertEqual([len(reached(either, 3)), len(silent(either)), len(passed(either, 1))], [2, 2, 3])
+        # One way needs a line behind what is done there, another one of as many lines does not.
+        ways = Script(Skip(1, at=Kept()), Drop(at=Last()), Skip(1, at=Last()), Drop(at=Kept()), Tell("x", at=Number(2)),
+                      Keep(at=If(Has("a"))), store=1, is_quiet=True)
+        more = Script(Skip(1, at=Not(Number(1))), Keep(at=If(Has("a"))), Skip(1, at=Not(Kept())), Drop(at=Last()), Skip(1, at=Last()),
+                      Drop(at=Not(Kept())), Tell("x", at=Number(2)), store=1, is_quiet=True)
+        for script, index in ((ways, 4), (more, 6)):
+            for text in (reached(script, index), silent(script), most_printed(script)[1], all_printed(script, Has("a"))):
+                self.assertEqual([len(text), run(script, text)], [2, ["x"]])
         kept = Script(Keep(at=If(Is("ab"))), Tell("a", at=Kept(Is("ab"))), Forget(at=Kept()), store=1)
         self.assertEqual([reached(kept, 1), unused(Script(Tell("a", at=Kept(Is("a"))), Keep(), Forget(), store=1))],
                          [["ab"], (0,)])

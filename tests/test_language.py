@@ -317,6 +317,8 @@ class PureTest(unittest.TestCase):
                 for call in nodes(each[2], ast.Call):
                     name = call.func.id if isinstance(call.func, ast.Name) else getattr(call.func, "attr", "")
                     waiting += [other for other in found.get(name, []) if (other[1] is None) == isinstance(call.func, ast.Name)]
+                    # A class that is called makes its object by its __init__.
+                    waiting += [other for other in found["__init__"] if other[1] == name]
         return reached
 
     def own_containers(self, function):
@@ -341,7 +343,8 @@ class PureTest(unittest.TestCase):
         for file, _, function in self.reached():
             own, place = self.own_containers(function), (file, function.name)
             for node in ast.walk(function):
-                if isinstance(node, ast.Attribute):
+                # An object that is being made is new.
+                if isinstance(node, ast.Attribute) and function.name != "__init__":
                     self.assertNotIsInstance(node.ctx, ast.Store, place)
                 if isinstance(node, ast.Subscript) and not isinstance(node.ctx, ast.Load):
                     self.assertIn(ast.unparse(node.value), own, place)
@@ -365,8 +368,12 @@ class PureTest(unittest.TestCase):
         self.assertLessEqual({"index", "place", "value", "rows", "window", "_rows"}, names)
         for file, _, function in self.reached():
             for node in nodes(function, ast.Call):
-                if isinstance(node.func, ast.Attribute):
-                    self.assertNotIn(node.func.attr, names, (file, function.name))
+                called = node.func.id if isinstance(node.func, ast.Name) else getattr(node.func, "attr", "")
+                self.assertNotIn(called, names, (file, function.name))
+
+    def test_the_place_of_a_letter_is_found_in_them(self):
+        names = {each[2].name for each in self.reached()}
+        self.assertLessEqual({"bit_of", "after_letter", "rows_of_lines", "__or__", "__and__", "__sub__", "__contains__"}, names)
 
 
 if __name__ == "__main__":

@@ -83,7 +83,9 @@ class LateTest(unittest.TestCase):
                 (Script(Stop(at=Last())), (0, 1)), (Script(Keep(), Put(at=Not(Last())), Forget(), store=1, is_quiet=True), (0, 2)),
                 (Script(Keep(), Put(at=Range(Number(2), Count(2))), Keep(at=NO), store=2, is_quiet=True), (1, 2)),
                 (Script(Leave(), Print()), "told"), (Script(Keep(at=Number(2)), Stop(at=Number(3)), Put(at=Last()), store=1), (0, 1)),
-                (Script(Keep(at=Number(2)), Put(at=Last()), Stop(at=Each(3, 3)), store=1), (1, 3))):
+                (Script(Keep(at=Number(2)), Put(at=Last()), Stop(at=Each(3, 3)), store=1), (1, 3)),
+                (Script(Keep(at=Number(1)), Drop(at=Number(1)), Put(at=Each(3, 1)), Stop(at=Each(3, 1)), store=1, is_quiet=True), (3, 4)),
+                (read_script(FAR), (12, 16))):
             number = self.check(script)
             if expected == "told":
                 self.assertIsNone(late(script))
@@ -92,6 +94,10 @@ class LateTest(unittest.TestCase):
             elif expected is not None:
                 self.assertEqual((number, len(late(script)[1])), expected)
 
+
+# A line is held over many rounds.
+FAR = ["window 1 store 2 quiet", "read", "putfirst at kept", "slide at changed", "keep at each 3 1", 'keep at if begins "ba"', "slide at changed",
+       'change first "ba" "c" at if both ends "aa" fails begins "b"', "read at range not any each 1 2"]
 
 # Scripts, as they are written, of which lines are decided that are not printed yet; with what must_keep tells.
 DECIDED = [
@@ -119,6 +125,11 @@ DECIDED = [
     (['window 1 store 2', 'keep', 'read at not last', 'read at not number 3', 'forget at last', 'putfirst at not last', 'later "a" at not number 2', 'putfirst at if only ""'], (3, 5)),
     (['window 1 store 2 quiet', 'change every "a" ""', 'putfirst at each 2 1', 'drop at each 2 2', 'put at kept is ""', 'change swap "a" "a"', 'keep at not number 1'], (2, 5)),
     (['window 1 store 2', 'skip 1 at each 1 3', 'printfirst at not number 1', 'keep at if only "a"', 'put at number 3', 'putfirst at if is "b"', 'read at if fails begins "ab"'], (3, 5)),
+    (['window 2 store 1 quiet', 'tell "b" at kept', 'put at if both ends "bb" only "ab"', 'later "a" at not range kept only "a" last', 'keep', 'keep', 'read', 'slide'], (1, 1)),
+    (['window 1 store 2 quiet', 'putfirst', 'later "" at if fails has "a"', 'change swap "a" "a"', 'keep at if fails ends "b"', 'read at not kept ends "ba"'], (2, 2)),
+    (['window 1 store 2 quiet', 'tell "b" at not range kept kept only "a"', 'later "a" at kept', 'keep at if fails ends "bb"', 'skip 3 at if begins "ab"', 'later "b"', 'put at kept', 'change behind "a" at kept', 'read'], (2, 3)),
+    # Behind decided lines of two rounds, and printed there alone.
+    (['window 1 store 1 quiet', 'keep at number 1', 'tell "x" at not number 1', 'skip 1 at not last', 'tell "x" at number 1', 'tell "x" at last', 'put at number 3', 'forget at number 3'], (1, 1)),
 ]
 
 
@@ -274,7 +285,11 @@ class KeepTest(unittest.TestCase):
                 (Script(Keep(), Keep(), Put(at=Last()), store=2, is_quiet=True), (1, 1)),
                 (Script(Keep(), Change(Front("a")), Keep(), PutFirst(at=Last()), store=2, is_quiet=True), (1, 1)),
                 (Script(Keep(), Read(), Put(), window=2, store=1, is_quiet=True), (1, 1)),
-                (Script(Keep(), PutFirst(at=Not(Last())), Put(at=Last()), store=2, is_quiet=True), (1, 1))):
+                (Script(Keep(), PutFirst(at=Not(Last())), Put(at=Last()), store=2, is_quiet=True), (1, 1)),
+                # Over several readings in the window.
+                (Script(Read(), Read(), Print(at=Last()), window=3, is_quiet=True), (3, 3)),
+                (Script(Read(at=Number(1)), Slide(at=Number(2)), PrintFirst(at=Number(3)), window=3, is_quiet=True), (1, 2)),
+                (Script(Slide(at=Not(Number(3))), PrintFirst(at=Number(3)), window=3, is_quiet=True), (0, 0))):
             self.assertEqual(self.check(script), expected)
 
     def test_lines_that_are_decided_ahead(self):

@@ -82,6 +82,14 @@ UNLIKE = [
     (Script(Change(Front("a"))), Script(Change(Behind("a"))), 1),
     (Script(Tell("x", at=Range(Number(1), Number(3)))), Script(Tell("x", at=Not(Each(1, 3)))), 3),
     (Script(Tell("x", at=Range(If(Is("a")), If(Is("a"))))), Script(Tell("x", at=If(Is("a")))), 2),
+    # A line that is fixed, beside one that is not, and beside one that is held.
+    (Script(Change(Every("a", ""), at=If(Only("a")))), Script(Change(Front("b"), at=If(Only("a")))), 1),
+    (Script(Change(Front("b"), at=If(Only("a")))), Script(Change(Every("a", ""), at=If(Only("a")))), 1),
+    (Script(Keep(at=Number(1)), Drop(at=Not(Number(2))), Drop(at=Not(If(Only("a")))), Put(), store=1, is_quiet=True),
+     Script(Drop(at=Not(Number(2))), Drop(at=Not(If(Only("a")))), Change(Every("a", "")), Print(), is_quiet=True), 2),
+    # One way needs a line behind it, another one of as many lines does not.
+    (Script(Skip(1, at=Kept()), Drop(at=Last()), Skip(1, at=Last()), Drop(at=Kept()), Tell("x", at=Number(2)), Keep(at=If(Has("a"))),
+            store=1, is_quiet=True), Script(is_quiet=True), 2),
 ]
 
 

@@ -118,6 +118,8 @@ class OutlookTest(unittest.TestCase):
                 (Script(Tell("a"), is_quiet=True), Script(is_quiet=True), [""], (1, (0, (), (), (), ()), (0, (), (), (), ()), (0, ("a",)))),
                 (Script(Read(), window=3), Script(Later("l"), Read(), window=2), ["x"],
                  (1, (1, (), (), (0,), ()), (2, (), ("l",), (0,), ()), (0, ()))),
+                (Script(Later("a"), Later("b"), Later("c"), Later("b"), Read(), window=2), Script(Tell("z"), Later("y"), Later("x"), Read(), is_quiet=True), ["l"],
+                 (1, (5, (), ("a", "b", "c", "b"), (0,), ()), (4, (), ("y", "x"), (0,), ()), (1, ("z",)))),
                 (Script(Slide(), window=3), keep, ["b", "ba"], (1, (0, (), (), (), ()), (0, (), (), (), ((0, ()), (0, ()))), (0, ()))),
                 (Script(Slide(), window=3), Script(Slide(at=Number(1)), window=3, is_quiet=True), ["x", "y"],
                  (2, (0, (), (), (), ()), (0, (), (), (), ()), (0, ()))),

@@ -51,7 +51,9 @@ class SelectionTest(unittest.TestCase):
         for script, expected in (
                 (Script(), None), (Script(is_quiet=True), None), (Script(Drop(at=If(Has("a")))), None), (Script(Slide(at=Last()), window=3), None),
                 (Script(Slide(), window=3), None), (Script(Slide(at=Not(Number(2))), window=3), None), (Script(Skip(1), Print()), None),
-                (Script(Read(at=Each(2, 1)), window=2), None), (Script(Stop(at=Number(2))), None), (Script(Leave(at=If(Is("a")))), None),
+                (Script(Read(at=Each(2, 1)), window=2), None), (Script(Read(), Read(), window=3), None), (Script(Tell("x", at=Not(Number(1))), Read(), Read(), window=3), 4),
+                (Script(Keep(), Drop(at=Not(Last())), Put(), Drop(), store=2), None),
+                (Script(Read(), Keep(), Drop(at=Not(Last())), Put(), Drop(), window=1, store=2), None), (Script(Stop(at=Number(2))), None), (Script(Leave(at=If(Is("a")))), None),
                 (TAIL, None), (HEAD, None), (Script(Keep(), PutFirst(at=Last()), Drop(), store=2), None),
                 # A told line.
                 (Script(Tell("a", at=Last())), 1), (Script(Tell("a", at=Number(3))), 3), (Script(Later("a"), Leave()), None),
